@@ -25,14 +25,18 @@ func Put(b []byte, n uint64) []byte {
 func Get(b []byte) (uint64, int, api.Errno) {
 	var n uint64
 	for i, c := range b {
-		// A byte has eight bits, so this is 0 up to the ninth one. Of the tenth one a single bit
-		// is left: what stands above it is too great, and so is a sign that another byte follows,
-		// so no eleventh one is ever come to.
-		left := 64 - group*uint(i)
-		if c>>left != 0 {
+		used := group * i
+		left := 64 - used
+		if left <= 0 {
 			return 0, 0, api.ErrForm
 		}
-		n |= uint64(c%more) << (group * uint(i))
+		// The sign that another byte follows is no part of the number: whether one does is told
+		// by the next byte or the end, so the tenth one is asked for its own bits alone.
+		bits := uint64(c % more)
+		if bits>>left != 0 {
+			return 0, 0, api.ErrForm
+		}
+		n |= bits << used
 		if c >= more {
 			continue
 		}

@@ -108,10 +108,16 @@ func TestP1_1GetWrong(t *testing.T) {
 		{"above 2^64", run(9, 255, 127), api.ErrForm},
 		{"too great ahead of the end", run(9, 255, 255), api.ErrForm},
 		{"too great ahead of the end", run(9, 128, 130), api.ErrForm},
-		{"another byte behind the tenth", run(10, 128), api.ErrForm},
-		{"another byte behind the tenth", run(9, 128, 129), api.ErrForm},
+		{"ten bytes and an end", run(10, 128), api.ErrShort},
+		{"ten bytes and an end", run(10, 129), api.ErrShort},
+		{"ten bytes and an end", run(9, 128, 129), api.ErrShort},
+		{"ten bytes and an end", run(9, 255, 128), api.ErrShort},
+		{"ten bytes and an end", run(9, 255, 129), api.ErrShort},
+		{"a tenth byte too great, with more behind", run(9, 128, 130, 1), api.ErrForm},
 		{"eleven bytes", run(10, 128, 1), api.ErrForm},
 		{"eleven bytes, a last 0", run(10, 128, 0), api.ErrForm},
+		{"eleven bytes and an end", run(11, 128), api.ErrForm},
+		{"eleven bytes and an end", run(9, 255, 129, 255), api.ErrForm},
 		{"twenty bytes", run(20, 255), api.ErrForm},
 		{"a thousand bytes", run(1000, 128, 1), api.ErrForm},
 	} {
@@ -135,8 +141,7 @@ func read(b []byte) (uint64, int, api.Errno) {
 	for i, c := range b {
 		part := new(big.Int).Lsh(big.NewInt(int64(c&127)), uint(7*i))
 		sum.Add(sum, part)
-		tooLong := i >= 10 || i == 9 && c >= 128
-		if !sum.IsUint64() || tooLong {
+		if !sum.IsUint64() || i >= 10 {
 			return 0, 0, api.ErrForm
 		}
 		if c >= 128 {
